@@ -1,0 +1,1 @@
+"""Momentloom: happenings in their order, run four ways, and replayed."""
