@@ -1,4 +1,8 @@
-"""The package keeps to its part of Python: the rules of LANGUAGE.md that can be seen in one file."""
+"""The package keeps to its part of Python, as far as this looks.
+
+Looked at, some of them in part: L1, L2, L4 to L8, L10, L12, L14 to L20, L25, L27 of LANGUAGE.md.
+Not looked at, so to be kept by reading: L3, L9, L11, L13, L21 to L24, L26, L28.
+"""
 
 import ast
 import builtins
