@@ -1,0 +1,143 @@
+"""Models and signs that several tests use, and how their states and books are compared."""
+
+from momentloom.model import Model
+
+GREATEST = 10 ** 15
+NOUGHT = ("part", ("number", 1), ("number", 0))
+EMPTY = ("empty",)
+CUT = ("cut",)
+
+
+def number(worth):
+    return ("number", worth)
+
+
+def send(to, sign, span, rank=0, g=number(0), h=number(0)):
+    return ("send", to, sign, number(span), rank, g, h)
+
+
+def told(state):
+    return (state.boxes, state.queues, state.drawn, state.sent)
+
+
+def parts_of(book):
+    return (book.records, book.ending, [told(state) for state in book.states])
+
+
+def keys_of(book):
+    return [record[0] for record in book.records]
+
+
+def shop():
+    """Each sort of deed in a model whose run goes on for ever, if nothing of it is left out."""
+    return Model([
+        ("gate", [("seen", 0), ("dice", 0)], [], [4, 1, 5, 9, 2], [
+            ("open", [
+                ("put", "seen", ("plus", ("box", "seen"), number(1))), ("draw", "dice", number(6)),
+                ("send", 1, "come", ("plus", ("box", "dice"), number(1)), 2, ("box", "seen"), ("now",)),
+                send(0, "open", 3)])]),
+        ("desk", [("last", -1), ("idle", 0)], ["line"], [], [
+            ("come", [("push", "line", ("got", 0)), send(1, "serve", 2, 1), send(1, "deaf", 1, 9)]),
+            ("serve", [
+                ("pull", "line", "last", [("put", "idle", ("plus", ("box", "idle"), number(1)))]),
+                ("if", ("below", number(3), ("box", "last")), [("end",), send(0, "open", 9)], [])])]),
+    ])
+
+
+def chain(steps, behind):
+    """One machine that does so many steps of its own, a time apart, and then the deeds behind."""
+    return Model([("m", [("n", 0)], ["q"], [], [
+        ("go", [
+            ("put", "n", ("plus", ("box", "n"), number(1))),
+            ("if", ("below", ("box", "n"), number(steps)), [send(0, "go", 1)], behind)]),
+        ("halt", [("end",)]), ("bad", [("push", "q", number(1)), send(0, "go", 1), ("put", "n", NOUGHT)])])])
+
+
+GO = [(0, 0, 0, "go", 0, 0)]
+
+
+def some_machines(chance):
+    def formula(deep):
+        if deep == 0 or chance.random() < 0.4:
+            return chance.choice([
+                number(chance.randrange(-2, 9)), ("box", "x"), ("box", "y"), ("long", "q"), ("got", 0), ("now",)])
+        kind = chance.choice(["plus", "less", "times", "part", "rest", "below", "same"])
+        return (kind, formula(deep - 1), formula(deep - 1))
+
+    def deed(deep):
+        kind = chance.choice(["put", "push", "push", "pull", "draw", "send", "send", "if", "end"])
+        if kind == "put" or (kind == "end" and chance.random() < 0.7):
+            return ("put", chance.choice("xy"), formula(2))
+        if kind == "push":
+            return ("push", "q", formula(1))
+        if kind == "pull":
+            return ("pull", "q", "x", deeds(deep - 1))
+        if kind == "draw":
+            return ("draw", "y", number(chance.randrange(1, 9)))
+        if kind == "send":
+            span = number(chance.randrange(1, 4)) if chance.random() < 0.9 else formula(1)
+            return ("send", chance.randrange(3), chance.choice("ab"), span, chance.randrange(3), formula(1), formula(1))
+        if kind == "if":
+            return ("if", formula(2), deeds(deep - 1), deeds(deep - 1))
+        return ("end",)
+
+    def deeds(deep):
+        return [deed(deep) for place in range(chance.randrange(4) if deep > 0 else 0)]
+
+    return [
+        ("klm"[at], [("x", 1), ("y", 2)], ["q"], [3, 14, 15], [(sign, deeds(3)) for sign in "ab"]) for at in range(3)]
+
+
+def some_signs(chance):
+    return [
+        (chance.randrange(6), chance.randrange(3), chance.randrange(3), chance.choice("ab"), chance.randrange(-3, 9), 0)
+        for place in range(chance.randrange(6))]
+
+
+def lively_machines(chance, count):
+    """Machines that go on for long: what they do and to whom they send leans on what came ahead."""
+    def to_one(span, got):
+        return (
+            "send", chance.randrange(count), chance.choice("abc"), span, chance.randrange(3),
+            ("rest", ("plus", ("box", "x"), got), number(7)), ("now",))
+
+    def some_send():
+        span = ("plus", number(chance.randrange(1, 4)), ("rest", ("times", ("box", "x"), ("box", "x")), number(5)))
+        got = chance.choice([("got", 0), ("box", "y"), number(3), ("long", "q")])
+        if chance.random() < 0.5:
+            return to_one(span, got)
+        test = chance.choice([
+            ("rest", ("box", "x"), number(2)), ("below", ("box", "y"), number(3)), ("same", ("long", "q"), number(1)),
+            ("below", ("got", 0), number(4))])
+        return ("if", test, [to_one(span, got)], [to_one(number(chance.randrange(1, 9)), got)])
+
+    def some_deed():
+        return chance.choice([
+            ("put", "x", ("rest", ("plus", ("times", ("box", "x"), number(3)), ("got", 0)), number(11))),
+            ("put", "y", ("plus", ("rest", ("box", "y"), number(9)), ("rest", ("now",), number(4)))),
+            ("if", ("below", ("long", "q"), number(9)), [("push", "q", ("box", "x"))], [("pull", "q", "y", [])]),
+            ("pull", "q", "x", [("push", "q", ("now",))]), ("draw", "y", number(chance.randrange(2, 12)))])
+
+    def rare():
+        """An end or a fault that comes, or is wrongly come to, at some times alone."""
+        late = ("below", number(chance.choice([3, 8, 15, 30])), ("now",))
+        test = ("times", late, ("same", ("box", "x"), number(chance.randrange(11))))
+        return ("if", test, [chance.choice([("end",), ("put", "x", NOUGHT), send(0, "a", 0)])], [])
+
+    def deeds():
+        found = [some_deed(), some_deed(), some_send()]
+        if chance.random() < 0.3:
+            found.append(some_send())
+        if chance.random() < 0.2:
+            found.append(rare())
+        return chance.sample(found, len(found))
+
+    return [
+        ("klmnop"[at], [("x", at), ("y", 2)], ["q"], [3, 14, 15, 92], [(sign, deeds()) for sign in "abc"])
+        for at in range(count)]
+
+
+def lively_signs(chance, count):
+    return [
+        (chance.randrange(12), chance.randrange(3), chance.randrange(count), chance.choice("abc"),
+         chance.randrange(-3, 9), 0) for place in range(chance.randrange(1, 9))]
