@@ -15,12 +15,21 @@ class Doing:
         self.written = {}
         self.outgoing = []
         self.ends = False
+        # What is read is not told of a happening, but the reasons of a box ask for it.
+        self.reckoned = []
+        self.queued = {}
 
     def now(self):
         return self.happening[0][0]
 
     def reckon(self, formula):
+        self.reckoned.append(formula)
         return worth_of(formula, self.state, self.now(), [self.happening[3], self.happening[4]])
+
+    def queue_of(self, name):
+        """The queue, to be pushed to or pulled from."""
+        self.queued[name] = True
+        return self.state.queues[name]
 
     def fill(self, box, worth):
         self.state.boxes[box] = worth
@@ -29,11 +38,17 @@ class Doing:
 
 def done(model, state, happening):
     """The tuple (state, record, ends) that doing the happening comes to; a Fault is raised."""
+    doing = doing_of(model, state, happening)
+    record = happening + (writes_of(doing), doing.outgoing)
+    return (doing.state, record, doing.ends)
+
+
+def doing_of(model, state, happening):
+    """The happening with all its deeds done; a Fault is raised."""
     machine = model.machines[happening[1]]
     doing = Doing(machine, state, happening)
     do_deeds(doing, deeds_by_sign(machine, happening[2]))
-    record = happening + (writes_of(doing), doing.outgoing)
-    return (doing.state, record, doing.ends)
+    return doing
 
 
 def deeds_by_sign(machine, sign):
@@ -81,7 +96,7 @@ def do_deed(doing, deed):
 
 def do_push(doing, name, formula):
     worth = doing.reckon(formula)
-    queue = doing.state.queues[name]
+    queue = doing.queue_of(name)
     if len(queue) >= 30:
         raise Full("a queue that has 30 already")
     queue.append(worth)
@@ -89,7 +104,7 @@ def do_push(doing, name, formula):
 
 
 def do_pull(doing, name, box, otherwise):
-    queue = doing.state.queues[name]
+    queue = doing.queue_of(name)
     if queue:
         doing.fill(box, queue.pop(0))
         doing.written[name] = True

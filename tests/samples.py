@@ -141,3 +141,39 @@ def lively_signs(chance, count):
     return [
         (chance.randrange(12), chance.randrange(3), chance.randrange(count), chance.choice("abc"),
          chance.randrange(-3, 9), 0) for place in range(chance.randrange(1, 9))]
+
+
+def changes(thing):
+    """The thing with one number, name, list or order in it changed, in each way that is near at hand."""
+    if isinstance(thing, int):
+        return [thing + 1, thing - 1]
+    if isinstance(thing, str):
+        return [thing + "z", "z" + thing[1:]]
+    make = list if isinstance(thing, list) else tuple
+    found = []
+    for place, part in enumerate(thing):
+        found += [make(thing[:place]) + make([other]) + make(thing[place + 1:]) for other in changes(part)]
+        if isinstance(thing, list):
+            found += [thing[:place] + thing[place + 1:], thing[:place] + [part] + thing[place:]]
+            if thing[place + 1:] and thing[place + 1] != part:
+                found.append(thing[:place] + [thing[place + 1], part] + thing[place + 2:])
+    return found
+
+
+def changed_records(record):
+    """The record, changed as above, with something more in its lists, or with a list for a worth and so on."""
+    writes = [record[5] + [("more", held)] for held in (7, [], [7])]
+    for place, (name, held) in enumerate(record[5]):
+        other = held + [7] if isinstance(held, list) else [held]
+        writes.append(record[5][:place] + [(name, other)] + record[5][place + 1:])
+    found = [record[:5] + (other, record[6]) for other in writes]
+    found.append(record[:5] + (record[5], record[6] + [((9, 0, record[1], 0), 0, "more", 7, 7)]))
+    return changes(record) + found
+
+
+def changed_books(records):
+    """The list of records with one of them changed, left out, there twice, or in another order."""
+    found = changes(records)
+    for place, record in enumerate(records):
+        found += [records[:place] + [other] + records[place + 1:] for other in changed_records(record)]
+    return found
