@@ -1,5 +1,6 @@
-"""Models and signs that several tests use, and how their states and books are compared."""
+"""Models, signs and texts that several tests use, and how their states, books and refusals are compared."""
 
+from momentloom.errors import NoText
 from momentloom.model import Model
 
 GREATEST = 10 ** 15
@@ -177,3 +178,80 @@ def changed_books(records):
     for place, record in enumerate(records):
         found += [records[:place] + [other] + records[place + 1:] for other in changed_records(record)]
     return found
+
+
+def line_refused(read, text):
+    """The line of the refusal with which reading the text answers, or None where it is read."""
+    try:
+        read(text)
+    except NoText as refusal:
+        return refusal.line
+    return None
+
+
+def some_change(chance, text):
+    """The text with a line or a word of it left out, moved, said twice or replaced, or with a sign changed."""
+    lines = text.split("\n")
+    at = chance.randrange(len(lines))
+    sort = chance.randrange(9)
+    if sort == 0:
+        lines.pop(at)
+    elif sort == 1:
+        lines.insert(chance.randrange(len(lines) + 1), lines[at])
+    elif sort == 2:
+        other = chance.randrange(len(lines))
+        lines[at], lines[other] = lines[other], lines[at]
+    elif sort == 3:
+        lines[at] = chance.choice(["", " ", "  ", "    "]) + lines[at].lstrip(" ") + chance.choice(["", "", " "])
+    elif sort == 4:
+        lines[at] = lines[at][2:] if chance.random() < 0.5 else "  " + lines[at]
+    elif sort == 5:
+        lines = lines[:at]
+    else:
+        words = lines[at].split(" ")
+        place = chance.randrange(len(words))
+        words[place:place + 1] = chance.choice([
+            [], [words[place]] * 2, [chance.choice(words)], [changed_word(chance, words[place])]])
+        lines[at] = " ".join(words)
+    return "\n".join(lines)
+
+
+def changed_word(chance, word):
+    if chance.random() < 0.4:
+        return chance.choice(["0", "-1", "7", "10", "x", "y", "q", "a", "+", "$1", "@", "else", "end", "1" + "0" * 15])
+    place = chance.randrange(len(word) + 1)
+    return word[:place] + chance.choice(["", "0", "1", "-", "z", "A", ".", " "]) + word[place + chance.randrange(2):]
+
+
+def everything():
+    """Machines with nothing in them, and one with all that can be in one, deeds of each sort within others too."""
+    ending = ("end",)
+    doing = [
+        ("put", "x", ("plus", ("box", "x"), ("times", number(2), ("long", "q")))), ("push", "q", ("got", 0)),
+        ("pull", "line", "most", []),
+        ("pull", "q", "x", [("put", "x", number(-1)), ("pull", "line", "least", [ending])]),
+        ("draw", "x", ("less", ("now",), number(-3))),
+        ("send", 5, "do", ("plus", number(1), ("got", 0)), 9, ("box", "x"), ("long", "line")),
+        ("if", ("below", ("box", "x"), number(3)), [
+            ("if", ("got", 1), [], [ending]), ("put", "most", number(0))], []),
+        ("if", number(0), [], [send(0, "b", 1), ("if", ("now",), [ending], [ending])]), ending]
+    boxes = [("least", -GREATEST), ("most", GREATEST), ("x", 0)]
+    hears = [("idle", []), ("do", doing), ("b", [ending, ending])]
+    return [
+        ("bare", [], [], [], []), ("rich", boxes, ["line", "q"], [0, GREATEST, 7, 7], hears),
+        ("last", [], ["only"], [5], []), ("dry", [], [], [], [("x", [("draw", "x", number(1))])])]
+
+
+def full_machines():
+    """Each bound of a model reached at once."""
+    formula = number(-GREATEST)
+    for turn in range(7):
+        formula = ("plus", number(GREATEST), formula)
+    nested = [("end",)]
+    for turn in range(4):
+        nested = [("if", formula, nested, [])]
+    deeds = [("send", 5, "zzzzzz", formula, 9, formula, formula)] * 10 + [("put", "boxf", formula)] * 5 + nested
+    hears = [(sign, deeds) for sign in ("zzzzzz", "b", "c", "d")]
+    boxes = [("box" + letter, GREATEST) for letter in "abcdef"]
+    return [
+        ("full" + letter, boxes, ["ququa", "ququb", "ququc"], [GREATEST] * 20, hears) for letter in "abcdef"]
